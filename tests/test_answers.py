@@ -54,6 +54,11 @@ class LayoutTest(unittest.TestCase):
         self.assertEqual(answers([2, 15900] + [1] * 15900), [1, -6])
         self.assertEqual(answers([5, 15900] + [49] * 15900 + [2, 0]), [1, -13, 2, 0, 0])
 
+    def test_no_such_call(self):
+        for number in (17, -1, 100, 9223372036854775807):
+            self.assertEqual(answers([number]), [1, -100])
+            self.assertEqual(answers([2, 0, number]), [2, 0, 0, 1, -100])
+
     def test_kinds(self):
         for calls in lists():
             got = answers(calls)
