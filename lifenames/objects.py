@@ -1,15 +1,18 @@
 """Calls and their answers."""
 
+from lifenames.collection import Collection
 from lifenames.fates import course_of, fate_told, later_told, object_course
+from lifenames.groups import groups_told, parting_of
 from lifenames.names import bytes_of, name_of, read_name
 from lifenames.plane import cells_told, in_order, place_at
 from lifenames.refusals import BornOfNothing, NotCall, NotPattern, NumberOutOfRange, Refusal
 from lifenames.rules import first_rule, form_of, read_rule
-from lifenames.symmetries import kin_told, rotor_told, spins_told
+from lifenames.symmetries import kin_told, rotor_told, span_told, spins_told
 
 FARTHEST = 1000000
 MOST_CELLS = 400
 LATEST = 1000000000000000000
+LATEST_TOGETHER = 64
 GREATEST_BYTE = 255
 
 
@@ -17,9 +20,11 @@ GREATEST_BYTE = 255
 class Line:
     def __init__(self):
         self.rule = first_rule()
+        self.collection = Collection()
 
     def take_rule(self, rule):
         self.rule = rule
+        self.collection = Collection()
 
 
 # A call cut from the list: its number, its whole numbers, its rows, and the place behind it.
@@ -101,6 +106,45 @@ def call_rotor(line, call):
     return rotor_told(object_course(line.rule, pattern))
 
 
+def call_groups(line, call):
+    k = call.wholes[0]
+    if k < 0 or k > LATEST_TOGETHER:
+        raise NumberOutOfRange()
+    pattern = read_pattern(line.rule, call.rows[0])
+    return groups_told(parting_of(line.rule, pattern, k))
+
+
+def call_add(line, call):
+    pattern = read_pattern(line.rule, call.rows[0])
+    name = name_of(line.rule, object_course(line.rule, pattern))
+    return line.collection.count_in(tuple(bytes_of(name)))
+
+
+def call_tallies(line, call):
+    return line.collection.tallies_told()
+
+
+def call_name_at(line, call):
+    return line.collection.name_told(call.wholes[0])
+
+
+def call_tally(line, call):
+    return line.collection.tally_told(tuple(call.rows[0]))
+
+
+def call_forget(line, call):
+    return line.collection.forget(tuple(call.rows[0]))
+
+
+def call_ranked(line, call):
+    return line.collection.ranked_told()
+
+
+def call_span(line, call):
+    pattern = read_pattern(line.rule, call.rows[0])
+    return span_told(object_course(line.rule, pattern))
+
+
 # For each call's number: what answers it, how many whole numbers it has, and what its rows are.
 CALLS = {
     0: (call_rule, 0, ("text",)),
@@ -112,6 +156,14 @@ CALLS = {
     6: (call_spins, 0, ("pattern",)),
     7: (call_kin, 0, ("pattern", "pattern")),
     8: (call_rotor, 0, ("pattern",)),
+    9: (call_groups, 1, ("pattern",)),
+    10: (call_add, 0, ("pattern",)),
+    11: (call_tallies, 0, ()),
+    12: (call_name_at, 1, ()),
+    13: (call_tally, 0, ("text",)),
+    14: (call_forget, 0, ("text",)),
+    15: (call_ranked, 0, ()),
+    16: (call_span, 0, ("pattern",)),
 }
 
 

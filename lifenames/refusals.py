@@ -71,6 +71,16 @@ class NotName(Refusal):
         Refusal.__init__(self, -13)
 
 
+class CollectionFull(Refusal):
+    def __init__(self):
+        Refusal.__init__(self, -14)
+
+
+class NotInCollection(Refusal):
+    def __init__(self):
+        Refusal.__init__(self, -15)
+
+
 class NotCall(Refusal):
     def __init__(self):
         Refusal.__init__(self, -100)

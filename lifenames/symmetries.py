@@ -1,4 +1,4 @@
-"""Symmetries of objects in place and time."""
+"""Symmetries of objects in place and time, and the places that objects take."""
 
 from lifenames.fates import phases_of
 from lifenames.plane import first_place, shape_of, turned, x_of, y_of
@@ -45,3 +45,12 @@ def rotor_told(course):
         if all([phase.get(place, 0) == state for phase in phases]):
             steady += 1
     return [steady, len(touched) - steady]
+
+
+def span_told(course):
+    across = []
+    down = []
+    for phase in phases_of(course):
+        across.extend([x_of(place) for place in phase])
+        down.extend([y_of(place) for place in phase])
+    return [0, min(across), min(down), max(across), max(down)]

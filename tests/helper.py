@@ -8,7 +8,8 @@ import random
 
 from lifenames.objects import answers
 
-RULE, FORM, FATE, LATER, NAME, NAMED, SPINS, KIN, ROTOR = range(9)
+(RULE, FORM, FATE, LATER, NAME, NAMED, SPINS, KIN, ROTOR, GROUPS, ADD, TALLIES, NAME_AT, TALLY, FORGET, RANKED,
+ SPAN) = range(17)
 
 EIGHT = [(-1, -1), (0, -1), (1, -1), (-1, 0), (1, 0), (-1, 1), (0, 1), (1, 1)]
 FOUR = [(0, -1), (-1, 0), (1, 0), (0, 1)]
@@ -69,6 +70,38 @@ def kin(a, b):
 
 def rotor(pattern):
     return [ROTOR] + row(pattern)
+
+
+def groups(k, pattern):
+    return [GROUPS, k] + row(pattern)
+
+
+def add(pattern):
+    return [ADD] + row(pattern)
+
+
+def tallies():
+    return [TALLIES]
+
+
+def name_at(i):
+    return [NAME_AT, i]
+
+
+def tally(text):
+    return [TALLY] + row(text)
+
+
+def forget(text):
+    return [FORGET] + row(text)
+
+
+def ranked():
+    return [RANKED]
+
+
+def span(pattern):
+    return [SPAN] + row(pattern)
 
 
 def ask(*calls):
@@ -168,6 +201,26 @@ class Model:
     def name(self, plane):
         return min(self.callings(plane), key=lambda text: (len(text), text.encode()))
 
+    def parted(self, plane, k):
+        """The groups for k, each as a plane: the cells it has at first, in the order of their first cells."""
+        parted = joined([({place: plane[place]}, {place: plane[place]}) for place in plane])
+        for _ in range(k):
+            parted = joined([(start, self.after(alone)) for start, alone in parted])
+        order = {place: number for number, place in enumerate(in_order(plane))}
+        return sorted([start for start, _ in parted], key=lambda start: min(order[place] for place in start))
+
+    def groups(self, plane, k):
+        """What groups must answer, where it isn't too much work."""
+        parted = self.parted(plane, k)
+        numbers = {place: number for number, start in enumerate(parted) for place in start}
+        return [len(parted)] + [numbers[place] for place in in_order(plane)]
+
+    def span(self, plane):
+        places = [place for phase in self.phases(plane) for place in phase]
+        across = [x for x, y in places]
+        down = [y for x, y in places]
+        return [0, min(across), min(down), max(across), max(down)]
+
 
 LIFE = Model("B3/S23", [3], [2, 3])
 BRAIN = Model("B2/S/3", [2], [], 3)
@@ -179,6 +232,26 @@ HEX_STATES = Model("B24/S03/C3H", [2, 4], [0, 3], 3, SIX)
 CROSS_STATES = Model("B2/S013/C3V", [2], [0, 1, 3], 3, FOUR)
 
 MODELS = [LIFE, BRAIN, HEX, CROSS, STAR, WAVE, HEX_STATES, CROSS_STATES]
+
+
+def near(plane, other):
+    return any(abs(x - u) <= 2 and abs(y - v) <= 2 for x, y in plane for u, v in other)
+
+
+def joined(parted):
+    """Groups that are near made one: each is what it was at first, and what it is now."""
+    apart = []
+    for start, now in parted:
+        others = [group for group in apart if near(group[1], now)]
+        apart = [group for group in apart if group not in others]
+        start = dict(start)
+        now = dict(now)
+        for group in others:
+            assert not set(now) & set(group[1])
+            start.update(group[0])
+            now.update(group[1])
+        apart.append((start, now))
+    return apart
 
 
 def plane_of(pattern):

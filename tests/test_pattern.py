@@ -2,7 +2,8 @@
 
 import unittest
 
-from tests.helper import BLINKER, BLOCK, ask_by, fate, kin, later, name, one_by, rotor, shuffled, spins, told
+from tests.helper import (BLINKER, BLOCK, add, ask_by, fate, groups, kin, later, name, one_by, rotor, shuffled, span,
+                          spins, told)
 
 STILL = "B/S012345678"
 STILL_64 = "B/S012345678/64"
@@ -19,6 +20,10 @@ CALLS = [
     lambda pattern: kin([0, 0, 1], pattern),
     lambda pattern: kin(pattern, pattern),
     rotor,
+    lambda pattern: groups(0, pattern),
+    lambda pattern: groups(50, pattern),
+    add,
+    span,
 ]
 
 MANY = [number for i in range(400) for number in (i % 20, i // 20, 1)]
@@ -77,7 +82,7 @@ class RefusedTest(unittest.TestCase):
 
     def test_no_cells(self):
         got = ask_by(STILL, *[call([]) for call in CALLS])
-        self.assertEqual(got, [[0, 0], [0], [0]] + [[-10]] * 6)
+        self.assertEqual(got, [[0, 0], [0], [0]] + [[-10]] * 6 + [[0], [0], [-10], [-10]])
 
     def test_refused_by_the_rule_that_holds(self):
         got = ask_by("B2/S/3", fate([0, 0, 2]), [0, 6] + list(b"B3/S23"), fate([0, 0, 2]), fate([0, 0, 1]))

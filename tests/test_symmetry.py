@@ -1,10 +1,13 @@
-"""Calls 6, 7 and 8: spins, kin and rotor, and promise 4: what's alike but for a turn and a move goes on alike."""
+"""Calls 6, 7, 8 and 16: spins, kin, rotor and span.
+
+And promise 4: what's alike but for a turn and a move goes on alike.
+"""
 
 import unittest
 
 from tests.helper import (ALL_STATES, BEEHIVE, BLINKER, BLOCK, BRAIN_SHIP, FIGURE_EIGHT, GLIDER, LIFE, LIGHT_SHIP,
                           MODELS, PULSAR, R_PENTOMINO, TOAD, WAVE, ask, ask_by, drawn, kin, move_between, moved,
-                          objects_of, one_by, rotor, shuffled, spins, told, turned)
+                          objects_of, one_by, rotor, shuffled, span, spins, told, turned)
 
 EXPLODING = [0, 0, 1, 0, 1, 1]
 DYING = [0, 0, 2]
@@ -197,6 +200,57 @@ class RotorTest(unittest.TestCase):
         self.assertEqual(got, [[-6], [-7], [-10], [-10], [-10], [-12]])
         tailed = told(drawn("111/..1/1"))
         self.assertEqual(ask(rotor(tailed), rotor(told(GLIDER)), rotor(told(R_PENTOMINO))), [[-10], [-12], [-10]])
+
+
+class SpanTest(unittest.TestCase):
+    def test_still(self):
+        self.assertEqual(ask(span(told(BLOCK)))[0], [0, 0, 0, 1, 1])
+        self.assertEqual(ask(span(told(moved(BEEHIVE, -7, 9))))[0], [0, -7, 9, -4, 11])
+        self.assertEqual(one_by("B/S0", span([5, -6, 1])), [0, 5, -6, 5, -6])
+        self.assertEqual(one_by("B/S0", span([5, -6, 1, -8, 40, 1, 6, 41, 1])), [0, -8, -6, 6, 41])
+
+    def test_comes_again_in_place(self):
+        self.assertEqual(ask(span(told(BLINKER)))[0], [0, 0, -1, 2, 1])
+        self.assertEqual(ask(span(told(LIFE.after(BLINKER))))[0], [0, 0, -1, 2, 1])
+        self.assertEqual(ask(span(told(TOAD)))[0], [0, 0, -1, 3, 2])
+        self.assertEqual(ask(span(told(PULSAR)))[0], LIFE.span(PULSAR))
+
+    def test_travels(self):
+        self.assertEqual(ask(span(told(GLIDER)))[0], [0, 0, 0, 3, 3])
+        self.assertEqual(ask(span(told(LIGHT_SHIP)))[0], LIFE.span(LIGHT_SHIP))
+        # Of period 1: the generation in which it comes again, one place farther, is no phase.
+        self.assertEqual(one_by("B2/S/3", span(SHIP)), [0, 0, 0, 1, 1])
+        self.assertEqual(one_by(WAVE.text, span(told(ALL_STATES))), [0, -62, 0, 0, 1])
+
+    def test_each_phase_begins_anew(self):
+        for i, phase in enumerate(LIFE.generations(LIGHT_SHIP, 9)):
+            self.assertEqual(ask(span(told(phase)))[0], LIFE.span(phase), i)
+
+    def test_at_the_edge(self):
+        pattern = [-1000000, 1000000, 1, 1000000, -1000000, 1]
+        self.assertEqual(one_by("B/S0", span(pattern)), [0, -1000000, -1000000, 1000000, 1000000])
+        standing = moved(drawn("1/1/1"), 1000000, 999998)
+        self.assertEqual(ask(span(told(standing)))[0], [0, 999999, 999998, 1000001, 1000000])
+        standing = moved(drawn("1/1/1"), -1000000, -1000000)
+        self.assertEqual(ask(span(told(standing)))[0], [0, -1000001, -1000000, -999999, -999998])
+
+    def test_against_the_phases(self):
+        travelling = 0
+        for model in MODELS:
+            for plane in planes_of(model):
+                plane = moved(plane, -31, 17)
+                self.assertEqual(one_by(model.text, span(shuffled(told(plane)))), model.span(plane), model.text)
+                travelling += model.fate(plane)[3:] != [0, 0]
+        self.assertGreater(travelling, 5)
+
+    def test_wider_than_a_name(self):
+        self.assertEqual(one_by("B/S0", span([0, 0, 1, 500, 64, 1])), [0, 0, 0, 500, 64])
+
+    def test_refused_in_order(self):
+        got = ask_by("B2/S/3", span(BAD), span(EXPLODING + [9]), span(EXPLODING), span(DYING), span([]), span(TAILED),
+                     span(SHIP))
+        self.assertEqual(got, [[-6], [-6], [-7], [-10], [-10], [-10], [0, 0, 0, 1, 1]])
+        self.assertEqual(ask(span(told(R_PENTOMINO)), span(told(drawn("111/..1/1")))), [[-10], [-10]])
 
 
 if __name__ == "__main__":
